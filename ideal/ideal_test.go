@@ -94,7 +94,11 @@ func unmixed(z uint64) uint64 {
 
 // secondDraw is a second reckoning of Draw.
 func secondDraw(seed, index uint64, n int) string {
-	base := secondMix(secondMix(seed + index))
+	return secondDrawBy(secondMix(secondMix(seed)+index), n)
+}
+
+// secondDrawBy is what is drawn of a BASE.
+func secondDrawBy(base uint64, n int) string {
 	var b []byte
 	for k := uint64(0); len(b) < n; k++ {
 		b = binary.BigEndian.AppendUint64(b, secondMix(base+k))
@@ -241,6 +245,44 @@ func TestDrawsWrittenOut(t *testing.T) {
 	}
 }
 
+// Written out, with an index: the seed alone is mixed first, and then its sum with the index.
+func TestDrawsOfAnIndexWrittenOut(t *testing.T) {
+	for _, x := range []struct {
+		seed, index uint64
+		want        string
+	}{
+		{0, 0, "238275bc38fcbe91421daf3033e887a3"},
+		{0, 1, "94926c2e801cb6f9ac1a201f5ae37988"},
+		{1, 0, "b18a02f46d8d86c36c5795e14b3b7e33"},
+		{1, 1, "d5159b73432a27957970e130d0c7742f"},
+		{7, 0, "9c01479161bc5d78199ec517d2809b60"},
+		{6, 1, "555b48ec0db76c4a1483223a81715aa9"},
+		{1 << 63, 1 << 63, "085b3419b15de42ab77fa404558f81c7"},
+		{highest, 1, "7548d87b9104c1d5439d351c3f034c15"},
+	} {
+		if s := fmt.Sprintf("%x", ideal.Draw(x.seed, x.index, 16)); s != x.want {
+			t.Errorf("Draw of %d, %d: %s, not %s", x.seed, x.index, s, x.want)
+		}
+	}
+}
+
+// Seed and index are not one number: what is drawn of neither is that of another seed at another index.
+func TestDrawsOfSeedsNextToEachOtherAreUnlike(t *testing.T) {
+	seen := map[string][2]uint64{}
+	// The second ones go round, from the last seeds to 0 and those behind it.
+	for _, from := range []uint64{1<<63 - 60, highest - 60} {
+		for seed := from; seed != from+120; seed++ {
+			for index := range uint64(60) {
+				s := ideal.Draw(seed, index, 8)
+				if other, has := seen[s]; has {
+					t.Fatalf("Draw of %d, %d as of %d: %x", seed, index, other, s)
+				}
+				seen[s] = [2]uint64{seed, index}
+			}
+		}
+	}
+}
+
 func TestDrawsOfNoBytes(t *testing.T) {
 	for _, n := range []int{0, -1, -2, -7, -8, -9, -1000, math.MinInt32, math.MinInt + 1, math.MinInt} {
 		for _, seed := range seeds() {
@@ -272,28 +314,49 @@ func TestDrawsBeginAlike(t *testing.T) {
 	}
 }
 
+// Mix of the seed, and the index: their sum goes round, whichever of them is the greater one.
 func TestDrawsGoRound(t *testing.T) {
-	for _, x := range []struct{ seed, index, sum uint64 }{
-		{highest, 1, 0}, {1, highest, 0}, {1 << 63, 1 << 63, 0}, {highest, highest, highest - 1}, {highest, 8, 7}, {1 << 63, highest, 1<<63 - 1},
+	for _, x := range []struct{ mixed, index, sum uint64 }{
+		{highest, 1, 0}, {1, highest, 0}, {1 << 63, 1 << 63, 0}, {highest, 0, highest}, {0, highest, highest},
+		{highest, highest, highest - 1}, {highest, 8, 7}, {8, highest, 7}, {1 << 63, highest, 1<<63 - 1},
 	} {
-		if s := ideal.Draw(x.seed, x.index, 20); s != secondDraw(x.sum, 0, 20) {
-			t.Errorf("Draw of %d, %d: %x, which is not that of %d, 0", x.seed, x.index, s, x.sum)
+		seed := unmixed(x.mixed)
+		if secondMix(seed) != x.mixed {
+			t.Fatalf("Mix of %d is not %d", seed, x.mixed)
+		}
+		if s, want := ideal.Draw(seed, x.index, 20), secondDrawBy(secondMix(x.sum), 20); s != want {
+			t.Errorf("Draw of %d (mixed %d), %d: %x, not %x", seed, x.mixed, x.index, s, want)
+		}
+	}
+}
+
+// A seed and an index whose own sum goes round are not those of the sum that is left: it is not their sum that is taken.
+func TestDrawsAreNotOfTheSumOfSeedAndIndex(t *testing.T) {
+	for _, x := range []struct{ seed, index, sum uint64 }{
+		{highest, 1, 0}, {1, highest, 0}, {1 << 63, 1 << 63, 0}, {highest, highest, highest - 1}, {highest, 8, 7},
+		{0, 1, 1}, {6, 1, 7}, {3, 4, 7}, {0, 1 << 50, 1 << 50},
+	} {
+		s := ideal.Draw(x.seed, x.index, 16)
+		if s == ideal.Draw(x.sum, 0, 16) {
+			t.Errorf("Draw of %d, %d is that of %d, 0: %x", x.seed, x.index, x.sum, s)
+		}
+		if x.seed != x.index && s == ideal.Draw(x.index, x.seed, 16) {
+			t.Errorf("Draw of %d, %d is that of them the other way round: %x", x.seed, x.index, s)
 		}
 	}
 }
 
 // The number behind 2^64 - 1 that is drawn of is 0.
 func TestDrawsOfTheLastBase(t *testing.T) {
-	seed := unmixed(unmixed(highest))
 	want := eight(0xe4d971771b652c20) + eight(0xe220a8397b1dcdaf) + eight(secondMix(1))
 	if secondMix(highest) != 0xe4d971771b652c20 {
 		t.Fatalf("%x", secondMix(highest))
 	}
-	if s := ideal.Draw(seed, 0, 24); s != want {
-		t.Errorf("%x, not %x", s, want)
-	}
-	if s := ideal.Draw(seed-highest, highest, 24); s != want {
-		t.Errorf("of a sum that goes round: %x, not %x", s, want)
+	sum := unmixed(highest)
+	for _, index := range []uint64{0, 1, sum, sum + 1, 1 << 63, highest} {
+		if s := ideal.Draw(unmixed(sum-index), index, 24); s != want {
+			t.Errorf("at %d: %x, not %x", index, s, want)
+		}
 	}
 }
 
@@ -330,6 +393,18 @@ func TestSeal(t *testing.T) {
 	}
 }
 
+// Written out: what a box of the seed 0 seals second is drawn of 0 and 1.
+func TestTheSecondThatIsSealed(t *testing.T) {
+	b, s := ideal.Seal(ideal.New(0), 0, 0, cid, "")
+	if x := fmt.Sprintf("%x", s[9:25]); x != "238275bc38fcbe91421daf3033e887a3" {
+		t.Errorf("the first one: %s", x)
+	}
+	_, s = ideal.Seal(b, 0, 0, cid, "")
+	if x := fmt.Sprintf("%x", s[9:25]); x != "94926c2e801cb6f9ac1a201f5ae37988" || s[9:] != ideal.Draw(0, 1, 20) {
+		t.Errorf("the second one: %s", x)
+	}
+}
+
 // The first byte is that of a short header, whatever is behind it.
 func TestWhatIsSealedBeginsBy64(t *testing.T) {
 	for _, to := range []string{"", "\x00", "\xff", "abcdefg", cid, "abcdefghi"} {
@@ -356,7 +431,7 @@ func TestBytesHideThePlainText(t *testing.T) {
 
 func TestTheLastNextGoesRound(t *testing.T) {
 	b, s := ideal.Seal(ideal.Box{Seed: 1, Next: highest}, 0, 3, cid, "plain text")
-	if want := "@" + cid + secondDraw(0, 0, 30); s != want || b.Next != 0 {
+	if want := "@" + cid + secondDraw(1, highest, 30); s != want || b.Next != 0 {
 		t.Errorf("%x, not %x; Next is %d", s, want, b.Next)
 	}
 	if x := open(b, 1, s); x != (said{3, "plain text", true}) {
@@ -449,8 +524,11 @@ func TestOpenOfTheFirstOfTwoAlike(t *testing.T) {
 func TestOpenOfWhatNobodySealed(t *testing.T) {
 	b, l := filled(6, 4)
 	_, next := ideal.Seal(b, 0, 9, cid, "plain text 4")
-	_, other := filled(1<<40, 4)
-	bytes := append([]string{"", "\x40", "\x40" + cid, cid, "plain text 0", next, strewn(1, 41)}, other...)
+	bytes := []string{"", "\x40", "\x40" + cid, cid, "plain text 0", next, strewn(1, 41)}
+	for _, seed := range []uint64{5, 7, 1 << 40} {
+		_, other := filled(seed, 6)
+		bytes = append(bytes, other...)
+	}
 	for _, s := range l {
 		bytes = append(bytes, s[1:], s[:len(s)-1], s+"\x00", "\x00"+s, s+s, s+l[0])
 	}
@@ -586,7 +664,7 @@ func TestIdsAndDrawsLeadBack(t *testing.T) {
 			if n := unmixed(number(ideal.Id(seed, index))) - seed - 1<<63; n != index {
 				t.Errorf("Id of %d, %d leads back to %d", seed, index, n)
 			}
-			if n := unmixed(unmixed(unmixed(number(ideal.Draw(seed, index, 8))))) - seed; n != index {
+			if n := unmixed(unmixed(number(ideal.Draw(seed, index, 8)))) - secondMix(seed); n != index {
 				t.Errorf("Draw of %d, %d leads back to %d", seed, index, n)
 			}
 		}
